@@ -24,8 +24,8 @@ func (v vector) across(w vector) vector {
 	return vector{v[1]*w[2] - v[2]*w[1], v[2]*w[0] - v[0]*w[2], v[0]*w[1] - v[1]*w[0]}
 }
 
-// balance is numbers, none of them negative, with which four vectors add up to 0. It reports false if these have other
-// ones only. The numbers are determinants: those of a plan or of its weights are whole, and within their limits.
+// balance is numbers, none of them negative, with which four vectors add up to 0. It reports false if such numbers have
+// both signs. They are determinants, so those of plans and of weights are whole, and within the limits of these.
 func balance(v [4]vector) ([4]int, bool) {
 	first, last := v[0].across(v[1]), v[2].across(v[3])
 	numbers := [4]int{v[1].times(last), -v[0].times(last), v[3].times(first), -v[2].times(first)}
@@ -155,7 +155,7 @@ func (s system) least(strokes int) (api.GrindAnswer, bool) {
 }
 
 // refusal is weights that refuse. If there is no right plan, there are four inequalities that no minutes keep: one more
-// than there are strokes. The sum of these that has no minutes left says that 0 is at least a bound above 0.
+// than there are strokes. In a sum of these no minutes are left, and it says that 0 is at least a bound above 0.
 func (s system) refusal() api.GrindProof {
 	for choice := range s.choices(api.MaxFewStrokes + 1) {
 		numbers, ok := balance(s.pulls(choice))
