@@ -423,6 +423,14 @@ func TestP5_6LongLoops(t *testing.T) {
 	if heights, e := checkUnwrap(t, spiral()); e != api.OK || slices.Max(heights) != 77*499 {
 		t.Error(heights, e)
 	}
+	// at its end a square that does not close: to the least cell of the region and back it would be too long
+	far := spiral()
+	for i, cell := range []int{120, 121, 133, 132} {
+		far.Phases[cell] = i * 250
+	}
+	if _, e := checkUnwrap(t, far); e != api.ErrOpen {
+		t.Error(e)
+	}
 	// a round of 44 cells at the edge, in the middle of which there is nothing
 	f := api.FringeMap{Width: 12, Phases: slices.Repeat([]int{-1}, 144)}
 	var edge []int
